@@ -1,0 +1,1 @@
+"""Barstay: holes of growing shapes as bars."""

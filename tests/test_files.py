@@ -1,0 +1,69 @@
+"""The files of the package: their sizes and signs, what they import, and what they define."""
+
+import ast
+import doctest
+import unittest
+from importlib import import_module
+from pathlib import Path
+
+ROOT = Path(__file__).resolve().parent.parent
+PACKAGE = ROOT / "barstay"
+FILES = sorted(path for path in PACKAGE.rglob("*") if path.is_file() and path.parent.name != "__pycache__")
+INTERFACE = {
+    "errors": ["BarError", "BadShape", "BadSimplex", "BadHeight", "DuplicateSimplex", "MissingFace", "LateFace",
+               "UnknownSimplex", "BadBar", "BadLine", "BadOrder", "BadSwap", "BadEdit", "NothingToUndo",
+               "NothingToRedo", "OtherShape"],
+    "shapes": ["is_simplex", "is_bar", "dimension_of", "faces_of", "check_shape", "grown", "order_of", "height_of",
+               "cofaces_of", "check_bars", "sorted_bars"],
+    "levels": ["heights_of", "shape_at", "counts_of", "euler_of", "euler_steps", "lowest_above"],
+}
+
+
+class TestFiles(unittest.TestCase):
+
+    def test_only_python_files_stand_in_the_package(self):
+        self.assertIn(PACKAGE / "__init__.py", FILES)
+        for path in FILES:
+            self.assertRegex(path.name, r"^[a-z0-9_]+\.py$")
+
+    def test_sizes_and_signs(self):
+        for path in FILES:
+            text = path.read_bytes().decode("ascii")
+            lines = text.split("\n")
+            self.assertLessEqual(len(lines), 399, path)
+            for line in lines:
+                self.assertLessEqual(len(line), 120, path)
+                self.assertTrue(line.isprintable(), path)
+            for node in ast.walk(ast.parse(text)):
+                if isinstance(node, ast.FunctionDef):
+                    self.assertLessEqual(node.end_lineno - node.lineno + 1, 40, node.name)
+
+    def test_imports_name_files_of_the_package_only(self):
+        for path in FILES:
+            for node in ast.walk(ast.parse(path.read_text())):
+                self.assertNotIsInstance(node, ast.Import, path)
+                if isinstance(node, ast.ImportFrom):
+                    self.assertEqual(node.level, 0, path)
+                    self.assertTrue(node.module.startswith("barstay."), path)
+                    for name in node.names:
+                        defined = getattr(import_module(node.module), name.name)
+                        self.assertEqual(defined.__module__, node.module)
+
+    def test_each_name_of_the_interface_is_defined_in_its_file(self):
+        for file, names in INTERFACE.items():
+            tree = ast.parse((PACKAGE / f"{file}.py").read_text())
+            defined = [node.name for node in tree.body if isinstance(node, (ast.FunctionDef, ast.ClassDef))]
+            for name in names:
+                self.assertEqual(defined.count(name), 1, name)
+
+    def test_the_examples_of_the_readme(self):
+        text = (ROOT / "README.md").read_text().replace("```", "")
+        test = doctest.DocTestParser().get_doctest(text, {}, "README.md", "README.md", 0)
+        runner = doctest.DocTestRunner()
+        runner.run(test)
+        self.assertGreater(runner.tries, 0)
+        self.assertEqual(runner.failures, 0)
+
+
+if __name__ == "__main__":
+    unittest.main()
