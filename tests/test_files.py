@@ -3,12 +3,13 @@
 import ast
 import doctest
 import unittest
-from importlib import import_module
 from pathlib import Path
 
 ROOT = Path(__file__).resolve().parent.parent
 PACKAGE = ROOT / "barstay"
 FILES = sorted(path for path in PACKAGE.rglob("*") if path.is_file() and path.parent.name != "__pycache__")
+# The modules of the standard library that LANGUAGE.md allows.
+LIBRARY = ("heapq", "math", "itertools", "collections")
 INTERFACE = {
     "errors": ["BarError", "BadShape", "BadSimplex", "BadHeight", "DuplicateSimplex", "MissingFace", "LateFace",
                "UnknownSimplex", "BadBar", "BadLine", "BadOrder", "BadSwap", "BadEdit", "NothingToUndo",
@@ -17,6 +18,19 @@ INTERFACE = {
                "cofaces_of", "check_bars", "sorted_bars"],
     "levels": ["heights_of", "shape_at", "counts_of", "euler_of", "euler_steps", "lowest_above"],
 }
+
+
+def tree_of(path):
+    return ast.parse(path.read_text())
+
+
+def defined_in(tree):
+    return [node.name for node in tree.body if isinstance(node, (ast.FunctionDef, ast.ClassDef))]
+
+
+def bound_in(tree):
+    constants = [target.id for node in tree.body if isinstance(node, ast.Assign) for target in node.targets]
+    return defined_in(tree) + constants
 
 
 class TestFiles(unittest.TestCase):
@@ -34,25 +48,23 @@ class TestFiles(unittest.TestCase):
             for line in lines:
                 self.assertLessEqual(len(line), 120, path)
                 self.assertTrue(line.isprintable(), path)
-            for node in ast.walk(ast.parse(text)):
+            for node in ast.walk(tree_of(path)):
                 if isinstance(node, ast.FunctionDef):
                     self.assertLessEqual(node.end_lineno - node.lineno + 1, 40, node.name)
 
-    def test_imports_name_files_of_the_package_only(self):
+    def test_imports_name_what_the_imported_file_defines(self):
         for path in FILES:
-            for node in ast.walk(ast.parse(path.read_text())):
+            for node in ast.walk(tree_of(path)):
                 self.assertNotIsInstance(node, ast.Import, path)
-                if isinstance(node, ast.ImportFrom):
-                    self.assertEqual(node.level, 0, path)
-                    self.assertTrue(node.module.startswith("barstay."), path)
+                if isinstance(node, ast.ImportFrom) and node.module not in LIBRARY:
+                    package, file = node.module.split(".")
+                    self.assertEqual((node.level, package), (0, "barstay"), path)
                     for name in node.names:
-                        defined = getattr(import_module(node.module), name.name)
-                        self.assertEqual(defined.__module__, node.module)
+                        self.assertIn(name.name, bound_in(tree_of(PACKAGE / f"{file}.py")))
 
     def test_each_name_of_the_interface_is_defined_in_its_file(self):
         for file, names in INTERFACE.items():
-            tree = ast.parse((PACKAGE / f"{file}.py").read_text())
-            defined = [node.name for node in tree.body if isinstance(node, (ast.FunctionDef, ast.ClassDef))]
+            defined = defined_in(tree_of(PACKAGE / f"{file}.py"))
             for name in names:
                 self.assertEqual(defined.count(name), 1, name)
 
