@@ -17,6 +17,9 @@ INTERFACE = {
     "shapes": ["is_simplex", "is_bar", "dimension_of", "faces_of", "check_shape", "grown", "order_of", "height_of",
                "cofaces_of", "check_bars", "sorted_bars"],
     "levels": ["heights_of", "shape_at", "counts_of", "euler_of", "euler_steps", "lowest_above"],
+    "written": ["format_shape", "format_bars", "parse_shape", "parse_bars"],
+    "chains": ["added", "summed", "last_of", "boundary", "is_cycle", "is_chain"],
+    "reducing": ["reduced", "pairs_of", "filling"],
 }
 
 
