@@ -28,9 +28,14 @@ def boundary(order, chain):
 
 def boundaries(order, chains):
     """Return the list of the boundaries of some chains."""
+    own = own_boundaries(order)
+    return [summed([own[place] for place in chain]) for chain in chains]
+
+
+def own_boundaries(order):
+    """Return the list of the boundaries of the simplices of an order."""
     places = {simplex: place for place, simplex in enumerate(order)}
-    faces = [tuple(sorted([places[face] for face in faces_of(simplex)])) for simplex in order]
-    return [summed([faces[place] for place in chain]) for chain in chains]
+    return [tuple(sorted([places[face] for face in faces_of(simplex)])) for simplex in order]
 
 
 def is_cycle(order, chain):

@@ -20,6 +20,10 @@ INTERFACE = {
     "written": ["format_shape", "format_bars", "parse_shape", "parse_bars"],
     "chains": ["added", "summed", "last_of", "boundary", "is_cycle", "is_chain"],
     "reducing": ["reduced", "pairs_of", "filling"],
+    "judging": ["fault", "is_right", "is_neat", "told_pairs", "shows_pairs"],
+    "ranks": ["rank", "relations", "made_of"],
+    "bars": ["bars_of", "bars_by", "lasting", "alive", "changes", "euler_by_bars"],
+    "cycles": ["holes", "holes_lasting", "paper_of", "judge_paper", "same_hole"],
 }
 
 

@@ -5,6 +5,7 @@ from itertools import combinations, product
 
 from barstay.chains import added, boundary, is_chain, last_of
 from barstay.reducing import filling, pairs_of, reduced
+from tests.checks import Checks
 from tests.samples import BALL, EIGHT, NAMED, ORDERS, PLANE, RING, SMALL, TORUS, all_chains, plain_boundary, shuffled
 
 # An order in which edges and triangles come as early as they can.
@@ -38,7 +39,7 @@ def pairs_by_filling(order):
     return [(birth, first_deaths.get(birth)) for birth in sorted({last_of(chain) for chain in cycles})]
 
 
-class TestReduced(unittest.TestCase):
+class TestReduced(Checks):
 
     def test_the_example(self):
         self.assertEqual(reduced(RING), [(0,), (1,), (2,), (3,), (3, 4), (3, 4, 5), (6,)])
@@ -78,15 +79,10 @@ class TestReduced(unittest.TestCase):
 
     def test_lists_are_new_and_orders_stay(self):
         for order in ORDERS:
-            before = list(order)
-            first = reduced(order)
-            self.assertIs(type(first), list)
-            first.append("changed")
-            self.assertNotIn("changed", reduced(order))
-            self.assertEqual(order, before)
+            self.gives_new_lists(reduced, order)
 
 
-class TestPairsOf(unittest.TestCase):
+class TestPairsOf(Checks):
 
     def test_the_example(self):
         self.assertEqual(pairs_of(RING), [(0, None), (1, 3), (2, 4), (5, 6)])
@@ -126,12 +122,7 @@ class TestPairsOf(unittest.TestCase):
 
     def test_lists_are_new_and_orders_stay(self):
         for order in ORDERS:
-            before = list(order)
-            first = pairs_of(order)
-            self.assertIs(type(first), list)
-            first.append("changed")
-            self.assertNotIn("changed", pairs_of(order))
-            self.assertEqual(order, before)
+            self.gives_new_lists(pairs_of, order)
 
 
 class TestFilling(unittest.TestCase):
@@ -158,7 +149,8 @@ class TestFilling(unittest.TestCase):
             chains = all_chains(order)
             deaths = [place for place, end in enumerate(ends_of(order, reduced(order))) if end is not None]
             for cycle in [chain for chain in chains if plain_boundary(order, chain) == ()]:
-                fill = [chain for chain in chains if plain_boundary(order, chain) == cycle and set(chain) <= set(deaths)]
+                fill = [chain for chain in chains
+                        if plain_boundary(order, chain) == cycle and set(chain) <= set(deaths)]
                 self.assertLessEqual(len(fill), 1)
                 self.assertEqual(filling(order, cycle), fill[0] if fill else None)
 

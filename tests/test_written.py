@@ -5,6 +5,7 @@ import unittest
 from barstay.errors import BadBar, BadHeight, BadLine, BadShape, BadSimplex
 from barstay.errors import DuplicateSimplex, LateFace, MissingFace
 from barstay.written import format_bars, format_shape, parse_bars, parse_shape
+from tests.checks import Checks
 from tests.samples import NAMED, RING, heights_for, shuffled
 
 # Words that are no numbers, in any line.
@@ -15,7 +16,7 @@ NO_NUMBERS = [
     "\u00b2", "\u0661", "\u0967", "\uff11", "\U0001d7d9", "\u2460", "\u2212" + "1", "1\u0301"]
 
 
-class Checks(unittest.TestCase):
+class TextChecks(Checks):
 
     def fails(self, call, text, kind, place):
         with self.assertRaises(kind) as held:
@@ -26,7 +27,7 @@ class Checks(unittest.TestCase):
         self.assertEqual(held.exception.word, kind.__name__)
 
 
-class TestFormatShape(Checks):
+class TestFormatShape(TextChecks):
 
     def test_the_empty_list(self):
         self.assertEqual(format_shape([]), "")
@@ -47,7 +48,7 @@ class TestFormatShape(Checks):
         self.assertEqual(shape, [((1,), 3), ((0,), 2), ((0, 1), 3)])
 
 
-class TestFormatBars(Checks):
+class TestFormatBars(TextChecks):
 
     def test_the_empty_list(self):
         self.assertEqual(format_bars([]), "")
@@ -65,7 +66,7 @@ class TestFormatBars(Checks):
         self.assertEqual(bars, [(2, 5, None), (0, 0, 1), (2, 5, None), (0, -7, 1)])
 
 
-class TestThereAndBack(Checks):
+class TestThereAndBack(TextChecks):
 
     def test_shapes(self):
         for order in NAMED.values():
@@ -82,13 +83,10 @@ class TestThereAndBack(Checks):
 
     def test_lists_are_new(self):
         for call, text in ((parse_shape, "0 at 2"), (parse_bars, "0 1 2"), (parse_shape, ""), (parse_bars, "")):
-            first = call(text)
-            self.assertIs(type(first), list)
-            first.append("changed")
-            self.assertNotIn("changed", call(text))
+            self.gives_new_lists(call, text)
 
 
-class TestParseShape(Checks):
+class TestParseShape(TextChecks):
 
     def test_right_texts(self):
         self.assertEqual(parse_shape(""), [])
@@ -171,7 +169,7 @@ class TestParseShape(Checks):
         self.fails(parse_shape, "0 at 1\n1 at 01\nx\n", BadLine, 1)
 
 
-class TestParseBars(Checks):
+class TestParseBars(TextChecks):
 
     def test_right_texts(self):
         self.assertEqual(parse_bars(""), [])
@@ -223,7 +221,7 @@ class TestParseBars(Checks):
         self.assertEqual(parse_bars("\n".join(["1 0 -"] * 200)), [(1, 0, None)] * 200)
 
 
-class TestExamples(Checks):
+class TestExamples(TextChecks):
 
     def test_the_ring(self):
         shape = list(zip(RING, (0, 0, 0, 1, 2, 3, 6)))
