@@ -50,6 +50,10 @@ SIXTY = with_faces(list(combinations(range(12), 2))[:48])
 NAMED = {"empty": [], "ring": RING, "eight": EIGHT, "ball": BALL, "plane": PLANE, "torus": TORUS, "sixty": SIXTY}
 SMALL = [RING, EIGHT] + [shuffled(part, seed) for part in (RING, EIGHT) for seed in range(4)]
 ORDERS = list(NAMED.values()) + [shuffled(part, seed) for part in NAMED.values() for seed in range(3)]
+# A tuple within a tuple, many times over.
+NESTED = (0,)
+for _ in range(5000):
+    NESTED = (NESTED,)
 # Values that are no chains of any order.
 STRANGE = [None, True, False, 0, 3, "", "0", "ab", [], [0], [[0]], ((),), ((0,),), ([0],), (None,), ("0",), ("",)]
 

@@ -5,6 +5,7 @@ from itertools import permutations
 
 from barstay.errors import BadBar
 from barstay.shapes import check_bars, is_bar, sorted_bars
+from tests.checks import Checks
 
 
 class TestIsBar(unittest.TestCase):
@@ -50,15 +51,11 @@ class TestIsBar(unittest.TestCase):
             self.says(value, False)
 
 
-class TestCheckBars(unittest.TestCase):
+class TestCheckBars(Checks):
 
     def fails(self, bars, place):
         before = list(bars)
-        with self.assertRaises(BadBar) as held:
-            check_bars(bars)
-        self.assertIs(type(held.exception), BadBar)
-        self.assertEqual(held.exception.place, place)
-        self.assertIs(type(held.exception.place), int)
+        self.raises(BadBar, place, check_bars, bars)
         self.assertEqual(bars, before)
 
     def test_right_bars_give_none(self):

@@ -24,6 +24,13 @@ INTERFACE = {
     "ranks": ["rank", "relations", "made_of"],
     "bars": ["bars_of", "bars_by", "lasting", "alive", "changes", "euler_by_bars"],
     "cycles": ["holes", "holes_lasting", "paper_of", "judge_paper", "same_hole"],
+    "keeping": ["Kept"],
+    "editing": ["edited", "inverse"],
+    "history": ["History"],
+}
+METHODS = {
+    "keeping": {"Kept": ["order", "pairs", "chains", "put", "drop", "swap"]},
+    "history": {"History": ["shape", "pairs", "chains", "bars", "do", "undo", "redo", "counts"]},
 }
 
 
@@ -74,6 +81,16 @@ class TestFiles(unittest.TestCase):
             defined = defined_in(tree_of(PACKAGE / f"{file}.py"))
             for name in names:
                 self.assertEqual(defined.count(name), 1, name)
+
+    def test_each_method_of_the_interface_is_defined_in_its_class(self):
+        for file, classes in METHODS.items():
+            found = []
+            for node in tree_of(PACKAGE / f"{file}.py").body:
+                if isinstance(node, ast.ClassDef) and node.name in classes:
+                    found.append(node.name)
+                    for name in ["__init__"] + classes[node.name]:
+                        self.assertEqual(defined_in(node).count(name), 1, name)
+            self.assertEqual(found, sorted(classes), file)
 
     def test_the_examples_of_the_readme(self):
         text = (ROOT / "README.md").read_text().replace("```", "")

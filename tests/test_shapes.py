@@ -6,27 +6,20 @@ from itertools import combinations, permutations
 from barstay.errors import BadHeight, BadShape, BadSimplex
 from barstay.errors import DuplicateSimplex, LateFace, MissingFace, UnknownSimplex
 from barstay.shapes import check_shape, cofaces_of, grown, height_of, order_of
+from tests.checks import Checks
 
 RING = [((0,), 0), ((1,), 0), ((2,), 0), ((0, 1), 1), ((1, 2), 2), ((0, 2), 3), ((0, 1, 2), 6)]
 # 12 vertices and 48 of their 66 edges.
 SIXTY = [((vertex,), -1000) for vertex in range(12)] + [(edge, 5) for edge in list(combinations(range(12), 2))[:48]]
 
 
-class Checks(unittest.TestCase):
-
-    def raises(self, kind, place, call, *given):
-        with self.assertRaises(kind) as held:
-            call(*given)
-        self.assertIs(type(held.exception), kind)
-        self.assertEqual(held.exception.place, place)
-        self.assertIs(type(held.exception.place), type(place))
-        self.assertEqual(held.exception.word, kind.__name__)
+class ShapeChecks(Checks):
 
     def fails(self, shape, kind, place):
         self.raises(kind, place, check_shape, shape)
 
 
-class TestRightShapes(Checks):
+class TestRightShapes(ShapeChecks):
 
     def test_give_none(self):
         for shape in [
@@ -49,7 +42,7 @@ class TestRightShapes(Checks):
         self.assertIsNone(check_shape(SIXTY))
 
 
-class TestBadShape(Checks):
+class TestBadShape(ShapeChecks):
 
     def test_sixty_one_items(self):
         self.fails(SIXTY + [((0, 1, 2), 5)], BadShape, None)
@@ -65,7 +58,7 @@ class TestBadShape(Checks):
         self.fails([None] * 60, BadSimplex, 0)
 
 
-class TestBadSimplex(Checks):
+class TestBadSimplex(ShapeChecks):
 
     def test_items_of_other_kinds(self):
         for item in [None, True, False, 3, "", "ab", [], (), [(0,), 3], [((0,), 3)], (((0,), 3),)]:
@@ -90,7 +83,7 @@ class TestBadSimplex(Checks):
         self.fails([(3, (0,))], BadSimplex, 0)
 
 
-class TestBadHeight(Checks):
+class TestBadHeight(ShapeChecks):
 
     def test_heights_at_the_edges(self):
         self.assertIsNone(check_shape([((0,), -1000)]))
@@ -110,7 +103,7 @@ class TestBadHeight(Checks):
         self.fails([((0,), 1), ((0,), None)], BadHeight, 1)
 
 
-class TestDuplicateSimplex(Checks):
+class TestDuplicateSimplex(ShapeChecks):
 
     def test_place_is_that_of_the_later_one(self):
         self.fails([((0,), 1), ((0,), 1)], DuplicateSimplex, 1)
@@ -122,7 +115,7 @@ class TestDuplicateSimplex(Checks):
         self.assertIsNone(check_shape([((0,), 1), ((1,), 1), ((0, 1), 1)]))
 
 
-class TestMissingFace(Checks):
+class TestMissingFace(ShapeChecks):
 
     def test_of_an_edge(self):
         self.fails([((0, 1), 1)], MissingFace, 0)
@@ -139,7 +132,7 @@ class TestMissingFace(Checks):
         self.assertIsNone(check_shape([((0, 1), 1), ((0,), 1), ((1,), 1)]))
 
 
-class TestLateFace(Checks):
+class TestLateFace(ShapeChecks):
 
     def test_of_an_edge(self):
         self.fails([((0,), 1), ((1,), 2), ((0, 1), 1)], LateFace, 2)
@@ -155,7 +148,7 @@ class TestLateFace(Checks):
         self.assertIsNone(check_shape([(simplex, 3) for simplex, height in RING]))
 
 
-class TestFirstError(Checks):
+class TestFirstError(ShapeChecks):
 
     def test_items_before_faces(self):
         self.fails([((0, 1), 1), ((0,), 1), ((0,), 1)], DuplicateSimplex, 2)
@@ -195,7 +188,7 @@ class TestFirstError(Checks):
             self.assertEqual(shape, before)
 
 
-class TestGrowing(Checks):
+class TestGrowing(ShapeChecks):
 
     def test_by_heights(self):
         self.assertEqual(grown([((0, 1), 3), ((1,), 3), ((0,), 2)]), [((0,), 2), ((1,), 3), ((0, 1), 3)])
@@ -243,7 +236,7 @@ class TestGrowing(Checks):
                 self.assertEqual(given, before)
 
 
-class TestHeightOf(Checks):
+class TestHeightOf(ShapeChecks):
 
     def test_of_each_simplex(self):
         for shape in (RING, RING[::-1], SIXTY):
@@ -267,7 +260,7 @@ class TestHeightOf(Checks):
         self.assertEqual(shape, RING[::-1])
 
 
-class TestCofacesOf(Checks):
+class TestCofacesOf(ShapeChecks):
 
     def test_of_vertices_edges_and_triangles(self):
         self.assertEqual(cofaces_of([((0,), 2), ((1,), 3), ((0, 1), 3)], (0,)), [(0, 1)])

@@ -19,12 +19,7 @@ NO_NUMBERS = [
 class TextChecks(Checks):
 
     def fails(self, call, text, kind, place):
-        with self.assertRaises(kind) as held:
-            call(text)
-        self.assertIs(type(held.exception), kind, text)
-        self.assertEqual(held.exception.place, place, text)
-        self.assertIs(type(held.exception.place), type(place))
-        self.assertEqual(held.exception.word, kind.__name__)
+        self.raises(kind, place, call, text)
 
 
 class TestFormatShape(TextChecks):
