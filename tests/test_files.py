@@ -27,6 +27,10 @@ INTERFACE = {
     "keeping": ["Kept"],
     "editing": ["edited", "inverse"],
     "history": ["History"],
+    "nearness": ["cost", "cost_alone", "is_bound", "partners"],
+    "matching": ["matched", "judge_matched", "judge_short"],
+    "closest": ["closest", "judge_closest"],
+    "stable": ["difference", "followed"],
 }
 METHODS = {
     "keeping": {"Kept": ["order", "pairs", "chains", "put", "drop", "swap"]},

@@ -11,7 +11,8 @@ from tests.checks import Checks
 from tests.samples import BALL, EIGHT, NAMED, NESTED, ORDERS, PLANE, RING, SIXTY, SMALL, STRANGE, TORUS, shuffled
 
 # What is no simplex, whatever the order holds.
-WRONG = STRANGE + [NESTED, (True,), (False,), (0, True), (12,), (-1,), (1, 0), (0, 0), (0, 1, 2, 3), (), ("0", 1), b"\0"]
+WRONG = STRANGE + [
+    NESTED, (True,), (False,), (0, True), (12,), (-1,), (1, 0), (0, 0), (0, 1, 2, 3), (), ("0", 1), b"\0"]
 
 
 def named(order, pairs):
